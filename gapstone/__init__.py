@@ -1,0 +1,1 @@
+"""Gapstone: round stones in a dish, and one stone for each gap."""

@@ -1,0 +1,123 @@
+"""The form of the package: the names of the interface, and those rules of the language that can be counted."""
+
+import ast
+import importlib
+import inspect
+import pathlib
+import re
+import unittest
+
+FOLDER = pathlib.Path(__file__).resolve().parent.parent / "gapstone"
+
+# Each function of the interface with its arguments and defaults, as it is written there.
+INTERFACE = {
+    "parts": {
+        "part": "(over, under=1)", "plus": "(one, other)", "less": "(one, other)", "times": "(one, other)",
+        "over": "(one, other)", "below": "(one, other)", "total": "(row, *, start=(0, 1))", "part_text": "(one)",
+        "read_part": "(text)",
+    },
+    "discs": {
+        "is_disc": "(thing)", "disc": "(middle, bend)", "middle": "(disc)", "number": "(disc, place)",
+        "look": "(one, other)", "touch": "(one, other)", "disc_text": "(disc)", "read_disc": "(text)",
+    },
+}
+BARRED = (
+    "type typing typing_extensions enum Enum IntEnum StrEnum Flag IntFlag Generic Protocol ABC ABCMeta namedtuple "
+    "NamedTuple TypedDict TYPE_CHECKING abstractmethod"
+).split()
+BUILTINS = (
+    "len range enumerate zip min max sum abs sorted reversed int str bool list tuple dict set frozenset isinstance ord "
+    "repr any all divmod iter next super property staticmethod classmethod Exception ValueError TypeError KeyError "
+    "IndexError LookupError ZeroDivisionError ArithmeticError OverflowError RuntimeError NotImplementedError "
+    "StopIteration NotImplemented"
+).split()
+
+
+def files():
+    return sorted(FOLDER.glob("*.py"))
+
+
+def bound(tree):
+    """Each name that a file binds, in whatever way."""
+    for node in ast.walk(tree):
+        if isinstance(node, (ast.FunctionDef, ast.ClassDef)):
+            yield node.name
+        elif isinstance(node, ast.arg):
+            yield node.arg
+        elif isinstance(node, ast.Name) and not isinstance(node.ctx, ast.Load):
+            yield node.id
+        elif isinstance(node, ast.Attribute) and not isinstance(node.ctx, ast.Load):
+            yield node.attr
+
+
+class Interface(unittest.TestCase):
+    def test_each_function_is_defined_in_its_file_with_its_arguments(self):
+        for name, functions in INTERFACE.items():
+            module = importlib.import_module("gapstone." + name)
+            for function, arguments in functions.items():
+                self.assertEqual(str(inspect.signature(getattr(module, function))), arguments, function)
+                self.assertEqual(getattr(module, function).__module__, "gapstone." + name)
+
+
+class Form(unittest.TestCase):
+    def test_the_folder_has_nothing_but_its_files(self):
+        others = [path.name for path in FOLDER.iterdir() if path.suffix != ".py" and path.name != "__pycache__"]
+        self.assertEqual(others, [])
+        for path in files():
+            self.assertRegex(path.name, r"\A(__init__|__main__|[a-z][a-z0-9_]*)\.py\Z")
+
+    def test_signs_and_sizes(self):
+        for path in files():
+            text = path.read_bytes().decode("ascii")
+            self.assertEqual(re.findall(r"[^ -~\n]", text), [], path.name)
+            self.assertLess(text.count("\n"), 400, path.name)
+            self.assertLessEqual(max([len(row) for row in text.split("\n")]), 120, path.name)
+            for node in ast.walk(ast.parse(text)):
+                if isinstance(node, ast.FunctionDef):
+                    self.assertLessEqual(node.end_lineno - node.lineno + 1, 40, node.name)
+
+    def test_barred_words(self):
+        for path in files():
+            text = path.read_text()
+            self.assertEqual([word for word in BARRED if re.search(rf"\b{word}\b", text)], [], path.name)
+            self.assertEqual(re.findall("dataclass|overload|contextmanager", text), [], path.name)
+
+    def test_imports_name_files_of_the_package(self):
+        for path in files():
+            tree = ast.parse(path.read_text())
+            for node in ast.walk(tree):
+                self.assertNotIsInstance(node, ast.Import, path.name)
+                if isinstance(node, ast.ImportFrom):
+                    self.assertIn(node, tree.body)
+                    self.assertRegex(node.module, r"\Agapstone\.[a-z_]+\Z")
+                    source = ast.parse((FOLDER / (node.module.split(".")[1] + ".py")).read_text())
+                    defined = set(bound(ast.Module(source.body, [])))
+                    self.assertLessEqual({name.name for name in node.names}, defined, path.name)
+
+    def test_names(self):
+        for path in files():
+            tree = ast.parse(path.read_text())
+            names = [name for name in bound(tree) if name not in ("__init__", "__eq__", "__len__", "__str__", "__repr__")]
+            self.assertEqual([name for name in names if name.startswith("_")], [], path.name)
+            self.assertEqual([name for name in names if name in BUILTINS], [], path.name)
+            imported = {name.name for node in tree.body if isinstance(node, ast.ImportFrom) for name in node.names}
+            classes = {node.name for node in tree.body if isinstance(node, ast.ClassDef)}
+            held = [node.arg for node in ast.walk(tree) if isinstance(node, ast.arg)]
+            held += [node.id for node in ast.walk(tree) if isinstance(node, ast.Name) and isinstance(node.ctx, ast.Store)]
+            self.assertEqual([name for name in held if name in imported | classes], [], path.name)
+
+    def test_only_what_the_language_has(self):
+        outside = (ast.Global, ast.AsyncFunctionDef, ast.Await, ast.Div)
+        for path in files():
+            for node in ast.walk(ast.parse(path.read_text())):
+                self.assertNotIsInstance(node, outside, path.name)
+                if isinstance(node, ast.Constant):
+                    self.assertNotIsInstance(node.value, (float, complex), path.name)
+                if isinstance(node, ast.BinOp) and isinstance(node.op, ast.Pow):
+                    self.assertIsInstance(node.right, ast.Constant, path.name)
+                if isinstance(node, ast.Compare) and any([isinstance(sign, (ast.Is, ast.IsNot)) for sign in node.ops]):
+                    self.assertIn(node.comparators[-1].value, (None, True, False), path.name)
+
+
+if __name__ == "__main__":
+    unittest.main()
