@@ -6,6 +6,7 @@ from fractions import Fraction
 from gapstone.discs import disc, disc_text, is_disc, look, middle, number, read_disc, touch
 from gapstone.errors import BadPart, BadText
 from gapstone.parts import below, part, plus
+from tests.helpers import at, fractions, pair, turned_out
 
 LONG = 10 ** 39 + 3
 ORIGIN = ((0, 1), (0, 1))
@@ -15,27 +16,6 @@ PLACES = [
     ((LONG, 1), (1, LONG)), ((12, 1), (LONG, 7)),
 ]
 BENDS = [(1, 1), (-1, 1), (2, 1), (-3, 1), (1, 2), (-1, 2), (7, 5), (-22, 7), (LONG, 1), (-1, LONG)]
-
-
-def pair(fraction):
-    return (fraction.numerator, fraction.denominator)
-
-
-def fractions(parts):
-    return [Fraction(*one) for one in parts]
-
-
-def at(x, y, bend):
-    """The disc about (x, y) with that bend, of whole numbers or fractions, by its plain formula."""
-    x, y, bend = Fraction(x), Fraction(y), Fraction(bend)
-    back = bend * (x * x + y * y) - 1 / bend
-    return tuple([pair(one) for one in (back, bend, x * bend, y * bend)])
-
-
-def turned_out(one):
-    """The same rim with the signs of all four parts turned: what lay within lies without."""
-    return tuple([(-top, bottom) for top, bottom in one])
-
 
 UNIT = at(0, 0, 1)
 RIM = at(0, 0, -1)

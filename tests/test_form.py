@@ -20,7 +20,25 @@ INTERFACE = {
         "is_disc": "(thing)", "disc": "(middle, bend)", "middle": "(disc)", "number": "(disc, place)",
         "look": "(one, other)", "touch": "(one, other)", "disc_text": "(disc)", "read_disc": "(text)",
     },
+    "words": {
+        "is_word": "(text)", "is_call": "(text)", "reduced": "(text)", "joined": "(one, other)", "undone": "(word)",
+        "call_at": "(word, letter)", "turned": "(call, word)", "call_key": "(call)",
+    },
+    "dish": {"Dish": "(discs)"},
+    "places": {
+        "find": "(dish, place, *, most=200)", "paper": "(dish, place, *, most=200)", "paper_holds": "(dish, place, told)",
+    },
+    "stands": {"stands": "(dish, disc, *, most=200)", "stands_so": "(dish, disc, told)"},
 }
+# Each class of the interface, but for the errors, with its methods.
+METHODS = {
+    ("dish", "Dish"): {
+        "seats": "(self)", "bends": "(self)", "four": "(self, word)", "stone": "(self, call)", "led": "(self, word)",
+        "root": "(self)", "touching": "(self, one, other)", "__eq__": "(self, other)", "__len__": "(self)",
+        "__str__": "(self)", "__repr__": "(self)",
+    },
+}
+WORTHS = {("words", "LETTERS"): "abcd", ("words", "GREAT"): "ABCD", ("words", "MOST_WORD"): 40, ("places", "MOST_SWAPS"): 200}
 BARRED = (
     "type typing typing_extensions enum Enum IntEnum StrEnum Flag IntFlag Generic Protocol ABC ABCMeta namedtuple "
     "NamedTuple TypedDict TYPE_CHECKING abstractmethod"
@@ -57,6 +75,16 @@ class Interface(unittest.TestCase):
             for function, arguments in functions.items():
                 self.assertEqual(str(inspect.signature(getattr(module, function))), arguments, function)
                 self.assertEqual(getattr(module, function).__module__, "gapstone." + name)
+
+    def test_each_method_is_defined_in_its_class_itself(self):
+        for (name, kind), methods in METHODS.items():
+            own = vars(getattr(importlib.import_module("gapstone." + name), kind))
+            for method, arguments in methods.items():
+                self.assertEqual(str(inspect.signature(own[method])), arguments, method)
+
+    def test_each_value_stands_under_its_name(self):
+        for (name, value), worth in WORTHS.items():
+            self.assertEqual(getattr(importlib.import_module("gapstone." + name), value), worth)
 
 
 class Form(unittest.TestCase):
@@ -117,6 +145,54 @@ class Form(unittest.TestCase):
                     self.assertIsInstance(node.right, ast.Constant, path.name)
                 if isinstance(node, ast.Compare) and any([isinstance(sign, (ast.Is, ast.IsNot)) for sign in node.ops]):
                     self.assertIn(node.comparators[-1].value, (None, True, False), path.name)
+
+    def test_no_name_is_a_method_and_an_attribute(self):
+        methods, attributes = set(), set()
+        for path in files():
+            for node in ast.walk(ast.parse(path.read_text())):
+                if isinstance(node, ast.ClassDef):
+                    methods |= {part.name for part in node.body if isinstance(part, ast.FunctionDef)}
+                elif isinstance(node, ast.Attribute) and isinstance(node.ctx, ast.Store):
+                    attributes.add(node.attr)
+        self.assertEqual(methods & attributes, set())
+
+    def test_lists_instead_of_generators(self):
+        # A class has an __eq__, so any, all and their kin take lists; and nothing is sorted in its place.
+        for path in files():
+            for node in ast.walk(ast.parse(path.read_text())):
+                self.assertNotIsInstance(node, (ast.GeneratorExp, ast.Yield, ast.YieldFrom), path.name)
+                if isinstance(node, ast.Attribute):
+                    self.assertNotEqual(node.attr, "sort", path.name)
+
+    def test_module_level(self):
+        allowed = (ast.ImportFrom, ast.FunctionDef, ast.ClassDef, ast.Assign, ast.Expr)
+        for path in files():
+            tree = ast.parse(path.read_text())
+            names = []
+            for node in tree.body:
+                self.assertIsInstance(node, allowed, path.name)
+                if isinstance(node, ast.Assign):
+                    self.assertEqual([type(target) for target in node.targets], [ast.Name], path.name)
+                    names.append(node.targets[0].id)
+                elif isinstance(node, ast.ImportFrom):
+                    names += [name.name for name in node.names]
+                elif isinstance(node, ast.Expr):
+                    self.assertIsInstance(node.value.value, str, path.name)
+                else:
+                    names.append(node.name)
+                    self.assertEqual(node.decorator_list, [], path.name)
+            self.assertEqual(len(names), len(set(names)), path.name)
+
+    def test_no_two_files_import_from_each_other(self):
+        sources = {}
+        for path in files():
+            nodes = ast.parse(path.read_text()).body
+            modules = [node.module for node in nodes if isinstance(node, ast.ImportFrom)]
+            sources[path.stem] = {module.split(".")[1] for module in modules}
+        while sources:
+            free = [name for name, needed in sources.items() if not needed & set(sources)]
+            self.assertNotEqual(free, [], sorted(sources))
+            sources = {name: needed for name, needed in sources.items() if name not in free}
 
 
 if __name__ == "__main__":

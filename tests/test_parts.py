@@ -8,6 +8,7 @@ from fractions import Fraction
 
 from gapstone.errors import BadPart, BadText
 from gapstone.parts import below, less, over, part, part_text, plus, read_part, times, total
+from tests.helpers import pair
 
 LONG = 10 ** 39 + 3
 LONGER = 9 * 10 ** 39 + 7
@@ -18,10 +19,6 @@ PARTS = [
     (0, 1), (1, 1), (-1, 1), (2, 1), (1, 2), (-1, 2), (3, 4), (-5, 6), (7, 12), (1, 3), (2, 3), (-2, 3), (12, 1),
     (LONG, 1), (-LONG, LONGER), (LONGER, LONG), (1, NINES), (-NINES, 7 * 10 ** 38), (NINES, 10 ** 39), (7, LONG),
 ]
-
-
-def pair(fraction):
-    return (fraction.numerator, fraction.denominator)
 
 
 class Lowest(unittest.TestCase):
