@@ -78,6 +78,26 @@ def swap(discs, word):
     return [tuple([pair(part) for part in one]) for one in discs]
 
 
+def seen_from(discs, x, y):
+    """Discs seen from a place that lies on none of their rims, by their middles and radii."""
+    told = []
+    for back, bend, own_x, own_y in [fractions(one) for one in discs]:
+        off_x, off_y, radius = own_x / bend - x, own_y / bend - y, 1 / bend
+        power = off_x * off_x + off_y * off_y - radius * radius
+        told.append(at(off_x / power, off_y / power, bend * power))
+    return told
+
+
+def call_in(call, word):
+    """The call, in the dish led by a word of any length, of the stone that has a call."""
+    swaps, seat = ("", call.lower()) if call in "ABCD" else (call, call[-1])
+    kept = word[::-1] + swaps
+    while any([pair_of in kept for pair_of in ("aa", "bb", "cc", "dd")]):
+        for pair_of in ("aa", "bb", "cc", "dd"):
+            kept = kept.replace(pair_of, "")
+    return kept[:kept.rindex(seat) + 1] if seat in kept else seat.upper()
+
+
 def words_of(many):
     """All words of so many letters."""
     texts = ["".join(letters) for letters in product(LETTERS, repeat=many)]
@@ -115,6 +135,14 @@ MANY_SEATS = [
     seats_of(ROOTS[3], move=(-4, 9), grow=Fraction(22, 7)),
     swap(seats_of(ROOTS[4], turn=(Fraction(-5, 13), Fraction(12, 13)), grow=Fraction(1, 9)), "ba")[::-1],
     seats_of(ROOTS[1], move=(Fraction(1, 10 ** 12), 10 ** 12), grow=10 ** 9),
+]
+
+# Dishes seen from within a stone that is not their rim.
+SEEN_SEATS = [
+    seen_from(seats_of(ROOTS[0]), Fraction(1, 2), 0),
+    seen_from(seats_of(ROOTS[0]), Fraction(1, 7), Fraction(-2, 3)),
+    seen_from(swap(seats_of(ROOTS[1]), "ab"), Fraction(1, 5), Fraction(1, 100)),
+    seen_from(swap(seats_of(ROOTS[2], move=(Fraction(1, 3), 2)), "cbd"), Fraction(9, 20), 2),
 ]
 
 # Two straight lines and two stones between them: all but the bends is as in a dish.

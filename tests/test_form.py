@@ -29,6 +29,11 @@ INTERFACE = {
         "find": "(dish, place, *, most=200)", "paper": "(dish, place, *, most=200)", "paper_holds": "(dish, place, told)",
     },
     "stands": {"stands": "(dish, disc, *, most=200)", "stands_so": "(dish, disc, told)"},
+    "sizes": {
+        "up_to": "(dish, bound, *, most=300)", "all_up_to": "(dish, bound, rows)", "sized": "(dish, bend, *, most=300)",
+    },
+    "rests": {"lot": "(dish, by)", "rests": "(dish, by)", "lot_holds": "(dish, by, rows)"},
+    "ways": {"way": "(dish, one, other)", "far": "(dish, one, other)"},
 }
 # Each class of the interface, but for the errors, with its methods.
 METHODS = {
@@ -38,7 +43,10 @@ METHODS = {
         "__str__": "(self)", "__repr__": "(self)",
     },
 }
-WORTHS = {("words", "LETTERS"): "abcd", ("words", "GREAT"): "ABCD", ("words", "MOST_WORD"): 40, ("places", "MOST_SWAPS"): 200}
+WORTHS = {
+    ("words", "LETTERS"): "abcd", ("words", "GREAT"): "ABCD", ("words", "MOST_WORD"): 40, ("places", "MOST_SWAPS"): 200,
+    ("sizes", "MOST_LISTED"): 300,
+}
 BARRED = (
     "type typing typing_extensions enum Enum IntEnum StrEnum Flag IntFlag Generic Protocol ABC ABCMeta namedtuple "
     "NamedTuple TypedDict TYPE_CHECKING abstractmethod"
