@@ -2,8 +2,8 @@
 
 from gapstone.discs import disc_text, is_disc, touch
 from gapstone.errors import BadDisc, BadTouch, TooMany, Unclosed
-from gapstone.swaps import as_parts, discs_behind, greatest_at, over_one_under, swapped
-from gapstone.words import LETTERS, must_be_call, must_be_word, seat_of
+from gapstone.swaps import as_parts, discs_behind, greatest_at, over_one_under, stone_behind, swapped
+from gapstone.words import LETTERS, must_be_call, must_be_word
 
 SEATS = 4
 MOST_TO_ROOT = 400
@@ -64,8 +64,7 @@ class Dish:
 
     def stone(self, call):
         must_be_call(call)
-        word, letter = seat_of(call)
-        return self.four(word)[LETTERS.find(letter)]
+        return stone_behind(self.discs, call)
 
     def led(self, word):
         return Dish(self.four(word))

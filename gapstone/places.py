@@ -12,10 +12,17 @@ def numbers_at(dish, place):
     return over_one_under([number(one, place) for one in dish.seats()])
 
 
-def find(dish, place, *, most=MOST_SWAPS):
+def lies_in(dish, place, most):
+    """The call of the stone in which a place lies, and whether it lies on its rim; TooMany."""
     row, under = numbers_at(dish, place)
     word, rows = fall(row, 0, most)
-    return seat_call(word, LETTERS[least_at(rows[-1])])
+    at = least_at(rows[-1])
+    return (seat_call(word, LETTERS[at]), rows[-1][at] == 0)
+
+
+def find(dish, place, *, most=MOST_SWAPS):
+    call, on_rim = lies_in(dish, place, most)
+    return call
 
 
 def paper(dish, place, *, most=MOST_SWAPS):

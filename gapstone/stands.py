@@ -20,13 +20,24 @@ def standing(disc, stone):
     return "crosses" if below(seen, ONE) else "within"
 
 
-def stands(dish, disc, *, most=MOST_SWAPS):
+def looks_fall(dish, disc, most):
+    """The word of the swaps of point 12, and the place of the seat with the greatest look behind them; TooMany."""
     # With all signs turned the least look is the greatest number, and the looks fall as the numbers of a place do.
     row, under = over_one_under([look(disc, one) for one in dish.seats()])
     word, rows = fall([-one for one in row], under - 1, most)
-    at = least_at(rows[-1])
+    return (word, least_at(rows[-1]))
+
+
+def stands(dish, disc, *, most=MOST_SWAPS):
+    word, at = looks_fall(dish, disc, most)
     stone = discs_behind(dish.seats(), word)[at]
     return (standing(disc, stone), seat_call(word, LETTERS[at]))
+
+
+def call_of(dish, stone):
+    """The call of a disc that is known to be a stone, however many letters it has."""
+    word, at = looks_fall(dish, stone, None)
+    return seat_call(word, LETTERS[at])
 
 
 def stands_so(dish, disc, told):

@@ -6,7 +6,7 @@ so all of these are swapped here, as whole numbers over one under.
 
 from gapstone.errors import TooMany
 from gapstone.parts import common, part
-from gapstone.words import LETTERS
+from gapstone.words import LETTERS, seat_of
 
 
 def over_one_under(row):
@@ -43,6 +43,12 @@ def discs_behind(discs, word):
     return list(zip(*columns))
 
 
+def stone_behind(discs, call):
+    """The disc of the stone with a call of any length."""
+    word, letter = seat_of(call)
+    return discs_behind(discs, word)[LETTERS.find(letter)]
+
+
 def greatest_at(row):
     """The place of the greatest, of several the first."""
     return row.index(max(row))
@@ -56,14 +62,14 @@ def least_at(row):
 def fall(row, bound, most):
     """While all four are above a bound the greatest, of several the first, is swapped.
 
-    Told are the word of these swaps and the rows of four, from the handed one on; TooMany.
+    Told are the word of these swaps and the rows of four, from the handed one on; TooMany, unless most is None.
     """
     word = ""
     rows = [list(row)]
-    while min(rows[-1]) > bound and len(word) <= most:
+    while min(rows[-1]) > bound and (most is None or len(word) <= most):
         at = greatest_at(rows[-1])
         word += LETTERS[at]
         rows.append(swapped(rows[-1], at))
-    if len(word) > most:
+    if most is not None and len(word) > most:
         raise TooMany(most)
     return (word, rows)

@@ -125,6 +125,23 @@ def rim_place(disc, c=Fraction(3, 5), s=Fraction(4, 5)):
     return (pair((x + c) / bend), pair((y + s) / bend))
 
 
+def shown(bench):
+    """All that can be asked of a bench without finding anything."""
+    return {
+        "dishes": {name: bench.told(name).seats() for name in bench.names()},
+        "marks": {name: bench.marks(name) for name in bench.names()},
+        "watches": {name: bench.watched(name) for name in bench.watches()},
+        "kept": (bench.held(), bench.reckoned()),
+        "steps": bench.steps(),
+    }
+
+
+def standing(bench):
+    """What of it is told by a page."""
+    told = shown(bench)
+    return told["dishes"], told["marks"], told["watches"]
+
+
 # Seats of many kinds: at the root, far from it, without the rim among them, grown, turned and moved.
 MANY_SEATS = [
     *[seats_of(bends) for bends in ROOTS],

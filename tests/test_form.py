@@ -34,6 +34,13 @@ INTERFACE = {
     },
     "rests": {"lot": "(dish, by)", "rests": "(dish, by)", "lot_holds": "(dish, by, rows)"},
     "ways": {"way": "(dish, one, other)", "far": "(dish, one, other)"},
+    "views": {
+        "moved": "(dish, by)", "turned_by": "(dish, by)", "mirrored": "(dish)", "grown": "(dish, times_of)",
+        "seen": "(dish, place, *, most=200)", "same": "(one, other, *, most=200)", "alike": "(one, other)",
+    },
+    "bench": {"Bench": "()"},
+    "pages": {"page": "(bench)", "read_page": "(text)"},
+    "desk": {"Desk": "(*, bench=None)"},
 }
 # Each class of the interface, but for the errors, with its methods.
 METHODS = {
@@ -42,10 +49,21 @@ METHODS = {
         "root": "(self)", "touching": "(self, one, other)", "__eq__": "(self, other)", "__len__": "(self)",
         "__str__": "(self)", "__repr__": "(self)",
     },
+    ("bench", "Bench"): {
+        "do": "(self, deed)", "all_of": "(self, deeds)", "dish": "(self, name, discs)", "drop": "(self, name)",
+        "lead": "(self, name, word)", "move": "(self, name, by)", "turn": "(self, name, by)",
+        "grow": "(self, name, times_of)", "mirror": "(self, name)", "see": "(self, name, place, *, most=200)",
+        "mark": "(self, name, call, number=1)", "watch": "(self, name, dish, place)", "let": "(self, name)",
+        "undo": "(self)", "redo": "(self)", "names": "(self)", "watches": "(self)", "told": "(self, name)",
+        "marks": "(self, name)", "load": "(self, name, word='')", "watched": "(self, name)",
+        "found": "(self, name, *, most=200)", "reckoned": "(self)", "held": "(self)", "steps": "(self)", "twin": "(self)",
+        "__eq__": "(self, other)", "__len__": "(self)",
+    },
+    ("desk", "Desk"): {"say": "(self, row)"},
 }
 WORTHS = {
     ("words", "LETTERS"): "abcd", ("words", "GREAT"): "ABCD", ("words", "MOST_WORD"): 40, ("places", "MOST_SWAPS"): 200,
-    ("sizes", "MOST_LISTED"): 300,
+    ("sizes", "MOST_LISTED"): 300, ("bench", "MOST_DISHES"): 6, ("bench", "MOST_MARKS"): 20, ("bench", "MOST_WATCHES"): 8,
 }
 BARRED = (
     "type typing typing_extensions enum Enum IntEnum StrEnum Flag IntFlag Generic Protocol ABC ABCMeta namedtuple "
@@ -163,6 +181,25 @@ class Form(unittest.TestCase):
                 elif isinstance(node, ast.Attribute) and isinstance(node.ctx, ast.Store):
                     attributes.add(node.attr)
         self.assertEqual(methods & attributes, set())
+
+    def test_asking_methods_assign_nothing(self):
+        for path in files():
+            for node in ast.walk(ast.parse(path.read_text())):
+                if isinstance(node, ast.FunctionDef) and node.name in ("__eq__", "__len__", "__str__", "__repr__"):
+                    self.assertEqual([type(row) for row in node.body], [ast.Return], path.name)
+
+    def test_tables_of_functions_are_called_by_names(self):
+        for path in files():
+            for node in ast.walk(ast.parse(path.read_text())):
+                if isinstance(node, ast.Call):
+                    self.assertIsInstance(node.func, (ast.Name, ast.Attribute), path.name)
+
+    def test_raised_on_the_spot(self):
+        for path in files():
+            for node in ast.walk(ast.parse(path.read_text())):
+                if isinstance(node, ast.Raise):
+                    self.assertIsInstance(node.exc, ast.Call, path.name)
+                    self.assertIsInstance(node.exc.func, ast.Name, path.name)
 
     def test_lists_instead_of_generators(self):
         # A class has an __eq__, so any, all and their kin take lists; and nothing is sorted in its place.
