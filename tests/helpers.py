@@ -154,6 +154,15 @@ MANY_SEATS = [
     seats_of(ROOTS[1], move=(Fraction(1, 10 ** 12), 10 ** 12), grow=10 ** 9),
 ]
 
+# A chain of stones of the first dish, each touching the next one, the rim and the stone B.
+CHAIN = "cd" * 250
+
+
+def deep_stone(many):
+    """The stone of the first dish whose call is so many letters of the chain."""
+    return swap(seats_of(ROOTS[0]), CHAIN[:many])[LETTERS.index(CHAIN[many - 1])]
+
+
 # Dishes seen from within a stone that is not their rim.
 SEEN_SEATS = [
     seen_from(seats_of(ROOTS[0]), Fraction(1, 2), 0),

@@ -2,7 +2,6 @@
 
 import copy
 import unittest
-from fractions import Fraction
 
 from gapstone import bench as module
 from gapstone.bench import Bench
@@ -15,7 +14,8 @@ from gapstone.errors import (
 from gapstone.views import grown, mirrored, moved, seen, turned_by
 from gapstone.words import turned
 from tests.helpers import (
-    MANY_SEATS, ROOTS, Refusing, STRIP, calls_up_to, rim_place, seats_of, shown, standing, swap, words_up_to,
+    CHAIN, MANY_SEATS, ROOTS, STRIP, Refusing, calls_up_to, deep_stone, rim_place, seats_of, shown, standing, swap,
+    words_up_to,
 )
 
 SEATS = seats_of(ROOTS[0])
@@ -24,15 +24,10 @@ DISH = Dish(SEATS)
 HERE = ((0, 1), (0, 1))
 PLACE = ((1, 2), (1, 10))
 RIM_PLACE = rim_place(SEATS[1])
-CHAIN = "cd" * 250
 BAD_NAMES = ["", "abcdefg", "A", "aB", "a1", "a b", " a", "a_b", "-", "a\n", "a.b"]
 GOOD_NAMES = ["a", "z", "abcdef", "dish", "aaaaaa"]
 BAD_WORDS = [("x", 0), ("ax", 1), ("aa", 1), ("A", 0), ("abcabb", 5), ("ab" * 20 + "a", 40), (" ", 0)]
 BAD_CALLS = ["", "E", "AB", "aa", "aB", "x", "ab" * 20 + "a", " a"]
-
-
-def deep_stone(many):
-    return swap(SEATS, CHAIN[:many])["abcd".index(CHAIN[many - 1])]
 
 
 def full_bench():

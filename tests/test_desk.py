@@ -7,11 +7,10 @@ from gapstone.desk import Desk
 from gapstone.discs import middle
 from gapstone.dish import Dish
 from gapstone.views import grown, mirrored
-from tests.helpers import MANY_SEATS, ROOTS, seats_of, shown, swap
+from tests.helpers import CHAIN, MANY_SEATS, ROOTS, deep_stone, seats_of, shown, swap
 
 SEATS = seats_of(ROOTS[0])
 DISH = Dish(SEATS)
-CHAIN = "cd" * 250
 PLACE = ((0, 1), (-3, 10))
 
 
@@ -153,8 +152,7 @@ class Refused(unittest.TestCase):
         self.no(desk, "watch i a 0,0", "Full")
 
     def test_too_many(self):
-        stone = swap(SEATS, CHAIN[:201])["abcd".index(CHAIN[200])]
-        desk = desk_of(("watch", "w", "a", middle(stone)))
+        desk = desk_of(("watch", "w", "a", middle(deep_stone(201))))
         self.no(desk, "find w", "TooMany")
         self.assertEqual(desk.bench.found("w", most=201), CHAIN[:201])
         self.assertEqual(desk.say("find w"), CHAIN[:201])

@@ -12,20 +12,15 @@ from gapstone.places import find
 from gapstone.views import grown, moved, same, seen
 from gapstone.words import turned
 from tests.helpers import (
-    MANY_SEATS, ROOTS, Refusing, SEEN_SEATS, call_in, common_place, seats_of, shown, swap, words_up_to,
+    CHAIN, MANY_SEATS, ROOTS, SEEN_SEATS, Refusing, call_in, common_place, deep_stone, seats_of, shown, words_up_to,
 )
 
 SEATS = seats_of(ROOTS[0])
 OTHER = seats_of(ROOTS[1])
 DISH = Dish(SEATS)
 HERE = ((0, 1), (0, 1))
-CHAIN = "cd" * 250
 # Within the stones "a", "ab" and B of the dish.
 IN_A, IN_AB, IN_B = [middle(DISH.stone(call)) for call in ("a", "ab", "B")]
-
-
-def deep_stone(many):
-    return swap(SEATS, CHAIN[:many])["abcd".index(CHAIN[many - 1])]
 
 
 def watching(place=IN_AB, seats=SEATS):

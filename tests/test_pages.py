@@ -6,16 +6,14 @@ from fractions import Fraction
 
 from gapstone.bench import Bench
 from gapstone.discs import disc_text
-from gapstone.dish import Dish
 from gapstone.errors import BadText
 from gapstone.pages import page, read_page
-from tests.helpers import MANY_SEATS, ROOTS, Refusing, STRIP, calls_up_to, pair, seats_of, shown, standing, swap
+from tests.helpers import CHAIN, MANY_SEATS, ROOTS, STRIP, Refusing, calls_up_to, pair, seats_of, shown, standing, swap
 
 SEATS = seats_of(ROOTS[0])
 OTHER = seats_of(ROOTS[1])
 TEXT = " ".join([disc_text(one) for one in SEATS])
 OTHER_TEXT = " ".join([disc_text(one) for one in OTHER])
-CHAIN = "cd" * 250
 PLACE = ((1, 2), (-1, 10))
 
 ROWS = [

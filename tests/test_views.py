@@ -12,16 +12,14 @@ from gapstone.views import alike, grown, mirrored, moved, same, same_stones, see
 from gapstone.ways import far
 from gapstone.words import call_at, turned
 from tests.helpers import (
-    MANY_SEATS, ROOTS, SEEN_SEATS, Refusing, at, call_in, calls_up_to, common_place, fractions, pair, rim_place, seats_of,
-    seen_from, swap, words_up_to,
+    CHAIN, MANY_SEATS, ROOTS, SEEN_SEATS, Refusing, at, call_in, calls_up_to, common_place, deep_stone, fractions, pair,
+    rim_place, seats_of, seen_from, swap, words_up_to,
 )
 
 SEATS = seats_of(ROOTS[0])
 DISH = Dish(SEATS)
 DISHES = [Dish(seats) for seats in [*MANY_SEATS, *SEEN_SEATS]]
 NOWHERE = ((0, 1), (0, 1))
-# A chain of stones, each touching the next one, the rim and the stone B.
-CHAIN = "cd" * 250
 PAIRS = [(Fraction(0), Fraction(0)), (Fraction(1), Fraction(0)), (Fraction(-7, 3), Fraction(22, 9)),
          (Fraction(10 ** 38), Fraction(-1, 10 ** 38))]
 TURNS = [(Fraction(1), Fraction(0)), (Fraction(-1), Fraction(0)), (Fraction(0), Fraction(1)), (Fraction(0), Fraction(-1)),
@@ -40,11 +38,6 @@ def by_middles(dish, change):
         (x, y), bend = fractions(middle(disc)), Fraction(*disc[1])
         told.append(at(*change(x, y, bend)))
     return told
-
-
-def deep_stone(many):
-    """The stone whose call is so many letters of the chain."""
-    return swap(SEATS, CHAIN[:many])["abcd".index(CHAIN[many - 1])]
 
 
 def inner_place(dish, call):
